@@ -1,0 +1,1 @@
+"""tickcounts: the numbers beside the boxes of a shop."""

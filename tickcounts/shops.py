@@ -1,0 +1,169 @@
+"""Shops, the things that bear their boxes, and ticks."""
+
+from tickcounts.checks import is_name
+from tickcounts.errors import InvalidItem, InvalidList, InvalidShop, InvalidThing, InvalidTicks, UnknownName
+
+MOST_GROUPS = 4
+MOST_BOXES = 5
+MODES = ("or", "and")
+AMOUNTS = ("one", "many")
+
+
+class Shop:
+    """A list of groups; a group is a tuple (name, mode, bears, boxes)."""
+
+    def __init__(self, groups):
+        if not isinstance(groups, list) or not 1 <= len(groups) <= MOST_GROUPS:
+            raise InvalidList(groups)
+        ahead = []
+        for group in groups:
+            if not is_group(group) or group[0] in ahead:
+                raise InvalidItem(group)
+            ahead.append(group[0])
+        self._groups = copy_groups(groups)
+
+    def __eq__(self, other):
+        return isinstance(other, Shop) and self._groups == other._groups
+
+    def groups(self):
+        """The list of the groups."""
+        return copy_groups(self._groups)
+
+    def names(self):
+        """The list of the names of the groups."""
+        return [name for name, mode, bears, boxes in self._groups]
+
+    def boxes(self, group):
+        """The list of the boxes of a group."""
+        for name, mode, bears, boxes in self._groups:
+            if name == group:
+                return list(boxes)
+        raise UnknownName(group)
+
+
+def is_group(value):
+    """Whether a value is a tuple that can be a group of a shop."""
+    if not isinstance(value, tuple) or len(value) != 4:
+        return False
+    name, mode, bears, boxes = value
+    return is_name(name) and mode in MODES and bears in AMOUNTS and are_boxes(boxes)
+
+
+def are_boxes(value):
+    """Whether a value is a list that can be the boxes of a group."""
+    if not isinstance(value, list) or not 1 <= len(value) <= MOST_BOXES:
+        return False
+    # Only names may get into the set: other values may have no hash.
+    return all([is_name(box) for box in value]) and len(set(value)) == len(value)
+
+
+def copy_groups(groups):
+    """A list equal to the groups that shares no list with them."""
+    return [(name, mode, bears, list(boxes)) for name, mode, bears, boxes in groups]
+
+
+def is_thing(shop, value):
+    """Whether a value is a thing of a shop."""
+    need_shop(shop)
+    return fits_thing(shop.groups(), value)
+
+
+def is_ticks(shop, value):
+    """Whether a value is ticks of a shop."""
+    need_shop(shop)
+    return fits_ticks(shop.groups(), value)
+
+
+def fits_thing(groups, value):
+    """Whether a value is a thing of a shop with these groups."""
+    if not fits_ticks(groups, value):
+        return False
+    return all([bears == "many" or len(row) == 1 for (name, mode, bears, boxes), row in zip(groups, value)])
+
+
+def fits_ticks(groups, value):
+    """Whether a value is ticks of a shop with these groups."""
+    if not isinstance(value, list) or len(value) != len(groups):
+        return False
+    return all([is_row(boxes, row) for (name, mode, bears, boxes), row in zip(groups, value)])
+
+
+def is_row(boxes, value):
+    """Whether a value is a list of some of the boxes, in their order, each once."""
+    return isinstance(value, list) and value == [box for box in boxes if box in value]
+
+
+def need_shop(shop):
+    """Raise InvalidShop unless a value is a shop."""
+    if not isinstance(shop, Shop):
+        raise InvalidShop(shop)
+
+
+def need_thing(shop, thing):
+    """Raise InvalidThing unless a value is a thing of a shop."""
+    if not fits_thing(shop.groups(), thing):
+        raise InvalidThing(thing)
+
+
+def need_ticks(shop, ticks):
+    """Raise InvalidTicks unless a value is ticks of a shop."""
+    if not fits_ticks(shop.groups(), ticks):
+        raise InvalidTicks(ticks)
+
+
+def all_things(shop):
+    """The list, in order, of all things of a shop."""
+    need_shop(shop)
+    things = [[]]
+    for name, mode, bears, boxes in shop.groups():
+        rows = bearable(bears, boxes)
+        things = [[*thing, row] for thing in things for row in rows]
+    # So far the things share their rows, and the caller may change each one alone.
+    return sorted([[list(row) for row in thing] for thing in things])
+
+
+def bearable(bears, boxes):
+    """The list of the lists of boxes of one group that a thing can bear."""
+    if bears == "one":
+        return [[box] for box in boxes]
+    rows = [[]]
+    for box in boxes:
+        rows = rows + [[*row, box] for row in rows]
+    return rows
+
+
+def met(shop, thing, ticks):
+    """For each group whether a thing meets the ticks in it."""
+    need_shop(shop)
+    need_thing(shop, thing)
+    need_ticks(shop, ticks)
+    return met_groups(shop.groups(), thing, ticks)
+
+
+def meets(shop, thing, ticks):
+    """Whether a thing meets the ticks in each group."""
+    return all(met(shop, thing, ticks))
+
+
+def met_groups(groups, thing, ticks):
+    """What met tells, for the groups of a shop and what is known to fit them."""
+    return [
+        meets_row(mode, borne, ticked)
+        for (name, mode, bears, boxes), borne, ticked in zip(groups, thing, ticks)
+    ]
+
+
+def meets_row(mode, borne, ticked):
+    """Whether who bears these boxes of a group meets what is ticked in it."""
+    if not ticked:
+        return True
+    has = [box in borne for box in ticked]
+    return any(has) if mode == "or" else all(has)
+
+
+def turned(groups, ticks, at, box):
+    """The ticks with one box of the group at a place ticked if it was not, else unticked; other rows are shared."""
+    name, mode, bears, boxes = groups[at]
+    rows = list(ticks)
+    rows[at] = [other for other in boxes if (other in ticks[at]) != (other == box)]
+    return rows
