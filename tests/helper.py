@@ -4,6 +4,8 @@ import copy
 import itertools
 
 from tickcounts.errors import InvalidItem, NothingToUndo
+from tickcounts.live import Live
+from tickcounts.rules import Rule
 from tickcounts.shops import Shop
 
 GROUPS = [("hue", "or", "many", ["red", "blue"]), ("size", "and", "one", ["s", "m"])]
@@ -20,21 +22,44 @@ def store():
     return copy.deepcopy(STORE)
 
 
+def rule():
+    """A rule that counts what bears the box."""
+    return Rule("leave", "keep", True, "things", False)
+
+
 def odd_values():
-    """Values that are no shop, no store, no thing, no ticks, no group and no box of any shop here."""
+    """Values that are no shop, no store, no thing, no ticks, no group and no box of any shop here, a rule among them."""
     deep = []
     for _ in range(18):
         deep = [deep]
     return [
         None, True, False, 0, 1, -1, 10 ** 999, "", "zz", "red\n", "Red", [None], [0], [[[]]], (), ("red",),
         {}, {"red": True}, {0: []}, {1: [[]]}, [{}], [()], [[], [], [], [], []], deep,
-        InvalidItem([]), NothingToUndo(),
+        InvalidItem([]), NothingToUndo(), rule(), Live(shop()),
     ]
 
 
 def wrong_shops():
     """Values that are no shop, the groups of one among them."""
     return [*odd_values(), "hue", [], copy.deepcopy(GROUPS), copy.deepcopy(GROUPS[0])]
+
+
+def wrong_rules():
+    """Values that are no rule, the words of one among them."""
+    odd = [value for value in odd_values() if not isinstance(value, Rule)]
+    return [*odd, shop(), "keep", ["leave", "keep", True, "things", False], ("leave", "keep", True, "things", False)]
+
+
+def every_words():
+    """The words of all rules."""
+    return list(itertools.product(
+        ("keep", "leave", "add", "only"), ("keep", "leave"), (True, False), ("things", "models"), (True, False),
+    ))
+
+
+def words_of(told):
+    """The words of a rule."""
+    return told.own, told.others, told.bears, told.counts, told.less
 
 
 def lists_within(value):
@@ -89,12 +114,69 @@ def plainly_meets(groups, thing, ticks):
     return told
 
 
+def with_box(groups, ticks, at, box):
+    """The ticks with one box ticked besides."""
+    return [
+        [one for one in group[3] if one in row or (place == at and one == box)]
+        for place, (group, row) in enumerate(zip(groups, ticks))
+    ]
+
+
+def plain_found(groups, store, ticks):
+    """The items whose things meet the ticks."""
+    return [item for item in store if all(plainly_meets(groups, item[1], ticks))]
+
+
+def plain_number(items, counts):
+    """The number of items, or of their unlike models."""
+    return len(items) if counts == "things" else len({model for model, _ in items})
+
+
+def plain_ticks(ticks, words, at, box):
+    """What the document says of the ticks that come of the given ones, as sets."""
+    own, others = words[:2]
+    changed = {"keep": set(ticks[at]), "leave": set(), "add": {*ticks[at], box}, "only": {box}}
+    kept = [set(row) if others == "keep" else set() for row in ticks]
+    return [changed[own] if place == at else row for place, row in enumerate(kept)]
+
+
+def plain_shown(groups, store, ticks, words, at, box):
+    """What the document says of the shown number."""
+    _, _, bears, counts, less = words
+    items = plain_found(groups, store, plain_ticks(ticks, words, at, box))
+    number = plain_number([item for item in items if not bears or box in item[1][at]], counts)
+    return number - plain_number(plain_found(groups, store, ticks), counts) if less else number
+
+
+def plain_board(groups, store, ticks, words):
+    """What the document says of all shown numbers."""
+    return [
+        [plain_shown(groups, store, ticks, words, at, box) for box in group[3]]
+        for at, group in enumerate(groups)
+    ]
+
+
+def stores_of(groups, chance):
+    """Stores with no item, with one of each kind, and with some, also equal ones."""
+    things = every_thing(groups)
+    yield []
+    for thing in things:
+        yield [("a", thing)]
+    for many in (2, 3, 6):
+        for _ in range(3):
+            yield [(chance.choice("ba"), chance.choice(things)) for _ in range(many)]
+
+
 def traced(value):
     """What a value is made of, down to the very objects."""
     if isinstance(value, (list, tuple)):
         return id(value), [traced(item) for item in value]
     if isinstance(value, Shop):
         return id(value), value.groups()
+    if isinstance(value, Rule):
+        return id(value), words_of(value)
+    if isinstance(value, Live):
+        return id(value), value.shop.groups(), value.store(), value.ticks(), value.log()
     return id(value), repr(value)
 
 

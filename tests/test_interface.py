@@ -3,7 +3,7 @@
 import inspect
 import unittest
 
-from tickcounts import errors, shops, stores
+from tickcounts import errors, live, promises, rules, shops, stores
 
 FUNCTIONS = {
     shops: {
@@ -14,13 +14,30 @@ FUNCTIONS = {
         "is_store": ["shop", "value"], "hits": ["shop", "store", "ticks"], "models": ["shop", "store", "ticks"],
         "dead": ["shop", "store", "ticks"], "idle": ["shop", "store", "ticks"],
     },
+    rules: {
+        "shown": ["shop", "store", "ticks", "rule", "group", "box"], "board": ["shop", "store", "ticks", "rule"],
+    },
+    promises: {
+        "unlike": ["shop", "rule", "other"], "click_right": ["shop", "rule"], "nought_right": ["shop", "rule"],
+        "falling": ["shop", "rule"], "sum_right": ["shop", "rule", "group"], "same_order": ["shop", "rule", "other"],
+    },
 }
 METHODS = {
     shops.Shop: {
         "__init__": ["self", "groups"], "groups": ["self"], "names": ["self"], "boxes": ["self", "group"],
         "__eq__": ["self", "other"],
     },
+    rules.Rule: {
+        "__init__": ["self", "own", "others", "bears", "counts", "less"], "__eq__": ["self", "other"],
+    },
+    live.Live: {
+        "__init__": ["self", "shop"], "put": ["self", "model", "thing"], "take": ["self", "model", "thing"],
+        "tick": ["self", "group", "box"], "clear": ["self"], "store": ["self"], "ticks": ["self"], "hits": ["self"],
+        "board": ["self", "rule"], "back": ["self"], "log": ["self"], "copy": ["self"], "__len__": ["self"],
+        "__eq__": ["self", "other"],
+    },
 }
+MODULES = {shops.Shop: shops, rules.Rule: rules, live.Live: live}
 
 
 class TestInterface(unittest.TestCase):
@@ -39,7 +56,7 @@ class TestInterface(unittest.TestCase):
                 with self.subTest(kind=kind, name=name):
                     self.assertIn(name, vars(kind))
                     self.assertEqual(list(inspect.signature(vars(kind)[name]).parameters), parameters)
-        self.assertEqual(shops.Shop.__module__, "tickcounts.shops")
+            self.assertEqual(kind.__module__, MODULES[kind].__name__)
 
     def test_parameters_of_the_errors(self):
         named = {"InvalidName", "TakenName", "UnknownName"}

@@ -59,13 +59,6 @@ def plain_hits(groups, store, ticks):
     return [at for at, (_, thing) in enumerate(store) if all(helper.plainly_meets(groups, thing, ticks))]
 
 
-def with_box(groups, ticks, at, box):
-    return [
-        [one for one in group[3] if one in row or (place == at and one == box)]
-        for place, (group, row) in enumerate(zip(groups, ticks))
-    ]
-
-
 def without_box(ticks, at, box):
     return [[one for one in row if place != at or one != box] for place, row in enumerate(ticks)]
 
@@ -74,7 +67,7 @@ def plain_dead(groups, store, ticks):
     return [
         (group[0], box)
         for at, group in enumerate(groups) for box in group[3]
-        if box not in ticks[at] and plain_hits(groups, store, with_box(groups, ticks, at, box)) == []
+        if box not in ticks[at] and plain_hits(groups, store, helper.with_box(groups, ticks, at, box)) == []
     ]
 
 
@@ -85,17 +78,6 @@ def plain_idle(groups, store, ticks):
         for at, group in enumerate(groups) for box in group[3]
         if box in ticks[at] and plain_hits(groups, store, without_box(ticks, at, box)) == found
     ]
-
-
-def stores_of(groups, chance):
-    """Stores with no item, with one of each kind, and with some, also equal ones."""
-    things = helper.every_thing(groups)
-    yield []
-    for thing in things:
-        yield [("a", thing)]
-    for many in (2, 3, 6):
-        for _ in range(3):
-            yield [(chance.choice("ba"), chance.choice(things)) for _ in range(many)]
 
 
 class TestIsStore(helper.Checks, unittest.TestCase):
@@ -149,7 +131,7 @@ class TestFound(helper.Checks, unittest.TestCase):
         chance = random.Random(7)
         for groups in helper.small_shops():
             shop = Shop(groups)
-            for store, ticks in itertools.product(stores_of(groups, chance), helper.every_ticks(groups)):
+            for store, ticks in itertools.product(helper.stores_of(groups, chance), helper.every_ticks(groups)):
                 found = plain_hits(groups, store, ticks)
                 self.assertEqual(hits(shop, store, ticks), found)
                 self.assertEqual(models(shop, store, ticks), sorted({store[at][0] for at in found}))

@@ -62,6 +62,11 @@ def copy_groups(groups):
     return [(name, mode, bears, list(boxes)) for name, mode, bears, boxes in groups]
 
 
+def copy_rows(rows):
+    """A list equal to a thing or ticks that shares no list with it."""
+    return [list(row) for row in rows]
+
+
 def is_thing(shop, value):
     """Whether a value is a thing of a shop."""
     need_shop(shop)
@@ -111,6 +116,12 @@ def need_ticks(shop, ticks):
         raise InvalidTicks(ticks)
 
 
+def need_box(shop, group, box):
+    """Raise UnknownName unless these are the names of a group of a shop and of a box of it."""
+    if box not in shop.boxes(group):
+        raise UnknownName(box)
+
+
 def all_things(shop):
     """The list, in order, of all things of a shop."""
     need_shop(shop)
@@ -119,7 +130,7 @@ def all_things(shop):
         rows = bearable(bears, boxes)
         things = [[*thing, row] for thing in things for row in rows]
     # So far the things share their rows, and the caller may change each one alone.
-    return sorted([[list(row) for row in thing] for thing in things])
+    return sorted([copy_rows(thing) for thing in things])
 
 
 def bearable(bears, boxes):
