@@ -28,7 +28,7 @@ def rule():
 
 
 def odd_values():
-    """Values that are no shop, no store, no thing, no ticks, no group and no box of any shop here, a rule among them."""
+    """Values that are no shop, no store, no thing, no ticks, no group and no box of any shop here."""
     deep = []
     for _ in range(18):
         deep = [deep]

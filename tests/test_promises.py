@@ -40,6 +40,8 @@ SMALL = [
     ([("a", "or", "many", ["x"]), ("b", "or", "one", ["x", "y"])], 3),
     ([("a", "or", "one", ["x"]), ("b", "and", "one", ["x", "y"])], 3),
     ([("a", "or", "one", ["x"]), ("b", "and", "many", ["x"]), ("c", "or", "one", ["x", "y"])], 2),
+    # Only a tick in the last group lets a thing meet the ticks that it did not meet, whatever is ticked elsewhere.
+    ([("a", "and", "many", ["x"]), ("b", "and", "many", ["x"]), ("c", "or", "one", ["x", "y"])], 2),
 ]
 
 
@@ -164,7 +166,7 @@ class TestAllSmallStores(Examples, unittest.TestCase):
 
 
 def large_shops():
-    """Groups of shops at the limits: of a million ticks, of 4,096 things, all "or", all "and", all "one", all "many"."""
+    """Groups of shops at the limits: a million ticks, 4,096 things, all "or", all "and", all "one", all "many"."""
     five = list("abcde")
     yield [(name, "or", "one", five) for name in "pqrs"]
     yield [(name, "and", "one", five) for name in "pqrs"]

@@ -55,6 +55,17 @@ NEVER = [
 ]
 
 
+# A shop and a store of some ten items, of which each bears boxes in each of four groups.
+WIDE = [
+    ("hue", "or", "many", ["a", "b", "c", "d"]), ("size", "and", "many", ["e", "f", "g", "h"]),
+    ("make", "or", "many", ["i", "j", "k", "l"]), ("x", "and", "one", ["m", "n", "o", "p"]),
+]
+
+
+def wide_store():
+    return [("cup", [list("abcd"), list("efgh"), list("ijkl"), ["m"]]) for _ in range(12)]
+
+
 def plain_hits(groups, store, ticks):
     return [at for at, (_, thing) in enumerate(store) if all(helper.plainly_meets(groups, thing, ticks))]
 
@@ -98,6 +109,33 @@ class TestIsStore(helper.Checks, unittest.TestCase):
             with self.subTest(value=value):
                 self.assertIs(is_store(shop, value), False)
 
+    def test_one_bad_item_in_any_place_of_a_store(self):
+        shop, good = Shop(WIDE), wide_store()
+        self.assertIs(is_store(shop, good), True)
+        bad_rows = [None, 0, True, "", "a", {}, (), [None], [[]], ["q"], ["m", "n"], ["b", "a"], ["a", "a"], ("a",)]
+        for place in (0, 5, 11):
+            for at in range(4):
+                for row in bad_rows:
+                    value = wide_store()
+                    value[place][1][at] = row
+                    self.assertIs(is_store(shop, value), False)
+            thing = good[0][1]
+            for item in (
+                None, "cup", [], (), ("cup",), ["cup", thing], ("Cup", thing), ("cup", thing[:3]),
+                ("cup", tuple(thing)), ("cup", [*thing, []]), ("cup", None), ("cup", thing, 1),
+            ):
+                self.assertIs(is_store(shop, [*good[:place], item, *good[place + 1:]]), False)
+
+    def test_rows_of_each_group_of_a_store(self):
+        shop = Shop(WIDE)
+        for at, (_, _, bears, boxes) in enumerate(WIDE):
+            for row in helper.subsets(boxes):
+                value = wide_store()
+                value[7][1][at] = row
+                self.assertIs(is_store(shop, value), bears == "many" or len(row) == 1)
+                value[7][1][at] = [*row[::-1], "z"]
+                self.assertIs(is_store(shop, value), False)
+
     def test_told_for_the_shop_that_is_passed(self):
         value = [("a", [["x"]])]
         self.assertTrue(is_store(Shop([("g", "or", "one", ["x"])]), value))
@@ -137,6 +175,23 @@ class TestFound(helper.Checks, unittest.TestCase):
                 self.assertEqual(models(shop, store, ticks), sorted({store[at][0] for at in found}))
                 self.assertEqual(dead(shop, store, ticks), plain_dead(groups, store, ticks))
                 self.assertEqual(idle(shop, store, ticks), plain_idle(groups, store, ticks))
+
+    def test_stores_of_some_ten_items_in_four_groups(self):
+        chance, shop = random.Random(8), Shop(WIDE)
+        rows = [helper.subsets(group[3]) for group in WIDE]
+        for many in (0, 1, 2, 4, 12, 12):
+            things = [
+                [*[chance.choice(some) for some in rows[:3]], [chance.choice("mnop")]] for _ in range(many)
+            ]
+            store = [(chance.choice(["cup", "jug", "pot"]), thing) for thing in things]
+            for given in (store, wide_store()):
+                for _ in range(60):
+                    ticks = [chance.choice([[], chance.choice(some)]) for some in rows]
+                    found = plain_hits(WIDE, given, ticks)
+                    self.assertEqual(hits(shop, given, ticks), found)
+                    self.assertEqual(models(shop, given, ticks), sorted({given[at][0] for at in found}))
+                    self.assertEqual(dead(shop, given, ticks), plain_dead(WIDE, given, ticks))
+                    self.assertEqual(idle(shop, given, ticks), plain_idle(WIDE, given, ticks))
 
     def test_nothing_ticked_finds_all(self):
         self.assertEqual(hits(helper.shop(), helper.store(), [[], []]), [0, 1, 2])

@@ -48,7 +48,7 @@ class Live:
         """Tick a box, or let it be unticked if it is ticked."""
         need_box(self.shop, group, box)
         at = self.shop.names().index(group)
-        self._do(("tick", group, box), self._items, turned(self.shop.groups(), self._ticked, at, box))
+        self._do(("tick", group, box), self._items, turned(self.shop.layout, self._ticked, at, box))
 
     def clear(self):
         """Let all boxes be unticked."""
@@ -70,12 +70,12 @@ class Live:
 
     def hits(self):
         """The list of the places of the items that the ticks find."""
-        return places(self.shop.groups(), self._items, self._ticked)
+        return places(self.shop.layout, self._items, self._ticked)
 
     def board(self, rule):
         """For each group the list of the numbers that a rule shows beside its boxes."""
         need_rule(rule)
-        return numbers_beside_all(self.shop.groups(), self._items, self._ticked, rule)
+        return numbers_beside_all(self.shop.layout, self._items, self._ticked, rule)
 
     def back(self):
         """Undo the last deed that has not been undone."""

@@ -80,7 +80,7 @@ def sum_right(shop, rule, group):
     need_shop(shop)
     need_rule(rule)
     boxes = shop.boxes(group)
-    scene = Scene(shop.groups(), shop.names().index(group))
+    scene = Scene(shop.layout, shop.names().index(group))
     for view in views(scene):
         told = [shown_bits(scene, view, rule, box) for box in boxes]
         found = view.found()
@@ -106,11 +106,10 @@ def same_order(shop, rule, other):
     need_shop(shop)
     need_rules(rule, other)
     told = order_by_one(shop, rule, other)
-    if told is None and "models" in (rule.counts, other.counts):
-        told = order_by_two(shop, rule, other)
-    if told is None and rule.counts != other.counts:
-        told = order_by_three(shop, rule)
-    return told
+    if told is not None or rule.counts == other.counts:
+        return told
+    told = order_by_two(shop, rule)
+    return order_by_three(shop, rule) if told is None else told
 
 
 def order_by_one(shop, rule, other):
@@ -122,24 +121,24 @@ def order_by_one(shop, rule, other):
     return None
 
 
-def order_by_two(shop, rule, other):
-    """An example of same_order with two items of one model, where there is none with one item.
+def order_by_two(shop, rule):
+    """An example of same_order with two items of one model, for rules that differ by no item alone but in counts.
 
-    So both rules count the same items beside box alone. Where one of them counts
-    models, such an item is hidden by one of its model that counts beside both boxes.
+    Such rules count the same items, if any beside one box alone. With one that they count
+    beside both boxes it makes two things against one, but one model against one.
     """
     for scene, view, box, second in pairs(shop):
         lone = lone_bits(scene, view, rule, box, second)
-        hiding = hiding_bits(scene, view, rule, box, second) ^ hiding_bits(scene, view, other, box, second)
-        if lone and hiding:
-            return (*example(scene, view, [lowest(lone), lowest(hiding)]), scene.group, box, second)
+        both = counted(view, rule, scene.at, box) & counted(view, rule, scene.at, second)
+        if lone and both:
+            return (*example(scene, view, [lowest(lone), lowest(both)]), scene.group, box, second)
     return None
 
 
 def order_by_three(shop, rule):
-    """An example of same_order with three items of one model, where there is none with two.
+    """An example of same_order with three items of one model, where the rules of order_by_two have none with two.
 
-    Two things outweigh one, but as a model they count once beside each of the boxes.
+    Two items beside the one box alone and one beside the other make the same numbers.
     """
     for scene, view, box, second in pairs(shop):
         lone = lone_bits(scene, view, rule, box, second)
@@ -185,13 +184,6 @@ def shown_bits(scene, view, rule, box):
 def lone_bits(scene, view, rule, box, second):
     """The items that a rule counts beside a box and not beside a second one."""
     return without(counted(view, rule, scene.at, box), counted(view, rule, scene.at, second))
-
-
-def hiding_bits(scene, view, rule, box, second):
-    """The items that hide others of their model, being counted beside both boxes by a rule that counts models."""
-    if rule.counts == "things":
-        return 0
-    return counted(view, rule, scene.at, box) & counted(view, rule, scene.at, second)
 
 
 def found_behind(scene, view, box):

@@ -50,7 +50,7 @@ def shown(shop, store, ticks, rule, group, box):
     need_store_and_ticks(shop, store, ticks)
     need_rule(rule)
     need_box(shop, group, box)
-    view = View(Tally(shop.groups(), store), ticks)
+    view = View(Tally(shop.layout, store), ticks)
     return number_beside(view, rule, shop.names().index(group), box)
 
 
@@ -58,7 +58,7 @@ def board(shop, store, ticks, rule):
     """For each group the list of the numbers that a rule shows beside its boxes."""
     need_store_and_ticks(shop, store, ticks)
     need_rule(rule)
-    return numbers_beside_all(shop.groups(), store, ticks, rule)
+    return numbers_beside_all(shop.layout, store, ticks, rule)
 
 
 def numbers_beside_all(groups, store, ticks, rule):

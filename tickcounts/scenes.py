@@ -41,7 +41,7 @@ class Scene:
 
 def scenes(shop):
     """The scene of each group of a shop."""
-    groups = shop.groups()
+    groups = shop.layout
     for at in range(len(groups)):
         yield Scene(groups, at)
 

@@ -20,22 +20,26 @@ class Shop:
             if not is_group(group) or group[0] in ahead:
                 raise InvalidItem(group)
             ahead.append(group[0])
-        self._groups = copy_groups(groups)
+        # For the package alone, which neither changes them nor hands them out. The rows are kept since
+        # most of the time of a call goes into telling whether things and ticks are such.
+        self.layout = copy_groups(groups)
+        self.tick_rows = [bearable("many", boxes) for name, mode, bears, boxes in groups]
+        self.thing_rows = [bearable(bears, boxes) for name, mode, bears, boxes in groups]
 
     def __eq__(self, other):
-        return isinstance(other, Shop) and self._groups == other._groups
+        return isinstance(other, Shop) and self.layout == other.layout
 
     def groups(self):
         """The list of the groups."""
-        return copy_groups(self._groups)
+        return copy_groups(self.layout)
 
     def names(self):
         """The list of the names of the groups."""
-        return [name for name, mode, bears, boxes in self._groups]
+        return [name for name, mode, bears, boxes in self.layout]
 
     def boxes(self, group):
         """The list of the boxes of a group."""
-        for name, mode, bears, boxes in self._groups:
+        for name, mode, bears, boxes in self.layout:
             if name == group:
                 return list(boxes)
         raise UnknownName(group)
@@ -70,32 +74,23 @@ def copy_rows(rows):
 def is_thing(shop, value):
     """Whether a value is a thing of a shop."""
     need_shop(shop)
-    return fits_thing(shop.groups(), value)
+    return has_rows(shop.thing_rows, value)
 
 
 def is_ticks(shop, value):
     """Whether a value is ticks of a shop."""
     need_shop(shop)
-    return fits_ticks(shop.groups(), value)
+    return has_rows(shop.tick_rows, value)
 
 
-def fits_thing(groups, value):
-    """Whether a value is a thing of a shop with these groups."""
-    if not fits_ticks(groups, value):
+def has_rows(choices, value):
+    """Whether a value is a list of one row of each of the choices, in their order."""
+    if not isinstance(value, list) or len(value) != len(choices):
         return False
-    return all([bears == "many" or len(row) == 1 for (name, mode, bears, boxes), row in zip(groups, value)])
-
-
-def fits_ticks(groups, value):
-    """Whether a value is ticks of a shop with these groups."""
-    if not isinstance(value, list) or len(value) != len(groups):
-        return False
-    return all([is_row(boxes, row) for (name, mode, bears, boxes), row in zip(groups, value)])
-
-
-def is_row(boxes, value):
-    """Whether a value is a list of some of the boxes, in their order, each once."""
-    return isinstance(value, list) and value == [box for box in boxes if box in value]
+    for row, rows in zip(value, choices):
+        if row not in rows:
+            return False
+    return True
 
 
 def need_shop(shop):
@@ -106,13 +101,13 @@ def need_shop(shop):
 
 def need_thing(shop, thing):
     """Raise InvalidThing unless a value is a thing of a shop."""
-    if not fits_thing(shop.groups(), thing):
+    if not has_rows(shop.thing_rows, thing):
         raise InvalidThing(thing)
 
 
 def need_ticks(shop, ticks):
     """Raise InvalidTicks unless a value is ticks of a shop."""
-    if not fits_ticks(shop.groups(), ticks):
+    if not has_rows(shop.tick_rows, ticks):
         raise InvalidTicks(ticks)
 
 
@@ -126,8 +121,7 @@ def all_things(shop):
     """The list, in order, of all things of a shop."""
     need_shop(shop)
     things = [[]]
-    for name, mode, bears, boxes in shop.groups():
-        rows = bearable(bears, boxes)
+    for rows in shop.thing_rows:
         things = [[*thing, row] for thing in things for row in rows]
     # So far the things share their rows, and the caller may change each one alone.
     return sorted([copy_rows(thing) for thing in things])
@@ -148,7 +142,10 @@ def met(shop, thing, ticks):
     need_shop(shop)
     need_thing(shop, thing)
     need_ticks(shop, ticks)
-    return met_groups(shop.groups(), thing, ticks)
+    return [
+        meets_row(mode, borne, ticked)
+        for (name, mode, bears, boxes), borne, ticked in zip(shop.layout, thing, ticks)
+    ]
 
 
 def meets(shop, thing, ticks):
@@ -156,20 +153,14 @@ def meets(shop, thing, ticks):
     return all(met(shop, thing, ticks))
 
 
-def met_groups(groups, thing, ticks):
-    """What met tells, for the groups of a shop and what is known to fit them."""
-    return [
-        meets_row(mode, borne, ticked)
-        for (name, mode, bears, boxes), borne, ticked in zip(groups, thing, ticks)
-    ]
-
-
 def meets_row(mode, borne, ticked):
     """Whether who bears these boxes of a group meets what is ticked in it."""
-    if not ticked:
-        return True
-    has = [box in borne for box in ticked]
-    return any(has) if mode == "or" else all(has)
+    # In mode "or" a ticked box that is borne decides it, in mode "and" one that is not.
+    decides = mode == "or"
+    for box in ticked:
+        if (box in borne) == decides:
+            return decides
+    return not decides or not ticked
 
 
 def turned(groups, ticks, at, box):

@@ -2,31 +2,38 @@
 
 from tickcounts.checks import is_name
 from tickcounts.errors import InvalidStore
-from tickcounts.shops import fits_thing, met_groups, need_shop, need_ticks, turned
+from tickcounts.shops import meets_row, need_shop, need_ticks
+from tickcounts.tallies import Tally, View
 
 
 def is_store(shop, value):
     """Whether a value is a store of a shop."""
     need_shop(shop)
-    return fits_store(shop.groups(), value)
+    return fits_store(shop, value)
 
 
-def fits_store(groups, value):
-    """Whether a value is a store of a shop with these groups."""
-    return isinstance(value, list) and all([fits_item(groups, item) for item in value])
-
-
-def fits_item(groups, value):
-    """Whether a value is a tuple of a model and a thing of a shop with these groups."""
-    if not isinstance(value, tuple) or len(value) != 2:
+def fits_store(shop, value):
+    """Whether a value is a store of what is known to be a shop."""
+    if not isinstance(value, list):
         return False
-    model, thing = value
-    return is_name(model) and fits_thing(groups, thing)
+    many = len(shop.thing_rows)
+    for item in value:
+        if not isinstance(item, tuple) or len(item) != 2:
+            return False
+        model, thing = item
+        if not is_name(model) or not isinstance(thing, list) or len(thing) != many:
+            return False
+    # Group by group, which takes less time than item by item.
+    for at, rows in enumerate(shop.thing_rows):
+        for model, thing in value:
+            if thing[at] not in rows:
+                return False
+    return True
 
 
 def need_store(shop, store):
     """Raise InvalidStore unless a value is a store of a shop."""
-    if not fits_store(shop.groups(), store):
+    if not fits_store(shop, store):
         raise InvalidStore(store)
 
 
@@ -40,12 +47,19 @@ def need_store_and_ticks(shop, store, ticks):
 def hits(shop, store, ticks):
     """The list of the places of the items that the ticks find."""
     need_store_and_ticks(shop, store, ticks)
-    return places(shop.groups(), store, ticks)
+    return places(shop.layout, store, ticks)
 
 
 def places(groups, store, ticks):
     """What hits tells, for the groups of a shop and what is known to fit them."""
-    return [at for at, (model, thing) in enumerate(store) if all(met_groups(groups, thing, ticks))]
+    found = list(range(len(store)))
+    for at, ticked in enumerate(ticks):
+        if len(ticked) > 1 and groups[at][1] == "or":
+            found = [place for place in found if meets_row("or", store[place][1][at], ticked)]
+        else:
+            for box in ticked:
+                found = [place for place in found if box in store[place][1][at]]
+    return found
 
 
 def models(shop, store, ticks):
@@ -56,11 +70,12 @@ def models(shop, store, ticks):
 def dead(shop, store, ticks):
     """The list of the tuples (group, box) of the unticked boxes behind whose ticking nothing is found."""
     need_store_and_ticks(shop, store, ticks)
-    groups = shop.groups()
+    view = View(Tally(shop.layout, store), ticks)
     told = []
-    for at, (name, mode, bears, boxes) in enumerate(groups):
+    for at, (name, mode, bears, boxes) in enumerate(shop.layout):
+        elsewhere = view.met_elsewhere(at)
         for box in boxes:
-            if box not in ticks[at] and not places(groups, store, turned(groups, ticks, at, box)):
+            if box not in ticks[at] and not elsewhere & view.tally.meeting(at, [*ticks[at], box]):
                 told.append((name, box))
     return told
 
@@ -68,11 +83,13 @@ def dead(shop, store, ticks):
 def idle(shop, store, ticks):
     """The list of the tuples (group, box) of the ticked boxes without which the same is found."""
     need_store_and_ticks(shop, store, ticks)
-    groups = shop.groups()
-    found = places(groups, store, ticks)
+    view = View(Tally(shop.layout, store), ticks)
+    found = view.found()
     told = []
-    for at, (name, mode, bears, boxes) in enumerate(groups):
+    for at, (name, mode, bears, boxes) in enumerate(shop.layout):
+        elsewhere = view.met_elsewhere(at)
         for box in ticks[at]:
-            if places(groups, store, turned(groups, ticks, at, box)) == found:
+            rest = [other for other in ticks[at] if other != box]
+            if elsewhere & view.tally.meeting(at, rest) == found:
                 told.append((name, box))
     return told

@@ -14,10 +14,15 @@ class Tally:
         """The items whose things meet what is ticked in the group at a place."""
         if not ticked:
             return self.every
-        bits = [self.bearing[at][box] for box in ticked]
-        told = bits[0]
-        for more in bits:
-            told = told | more if self.modes[at] == "or" else told & more
+        column = self.bearing[at]
+        if self.modes[at] == "or":
+            told = 0
+            for box in ticked:
+                told = told | column[box]
+            return told
+        told = self.every
+        for box in ticked:
+            told = told & column[box]
         return told
 
     def many_models(self, bits):
@@ -48,11 +53,14 @@ class View:
 
 def bits_of_boxes(groups, store):
     """For each group a dict that tells for each box which items bear it."""
-    columns = [{box: 0 for box in boxes} for name, mode, bears, boxes in groups]
-    for place, (model, thing) in enumerate(store):
+    columns = [{key: 0 for key in boxes} for name, mode, bears, boxes in groups]
+    bit = 1
+    for model, thing in store:
         for at, row in enumerate(thing):
+            column = columns[at]
             for box in row:
-                columns[at][box] += 1 << place
+                column[box] += bit
+        bit = 2 * bit
     return columns
 
 
