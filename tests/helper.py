@@ -4,6 +4,7 @@ import copy
 import itertools
 
 from tickcounts.errors import InvalidItem, NothingToUndo
+from tickcounts.library import Library
 from tickcounts.live import Live
 from tickcounts.rules import Rule
 from tickcounts.shops import Shop
@@ -27,15 +28,22 @@ def rule():
     return Rule("leave", "keep", True, "things", False)
 
 
+def library():
+    """A library with a question that is kept by the name of a box."""
+    told = Library(shop())
+    told.put("red", ([["red"], []], [[], []]))
+    return told
+
+
 def odd_values():
-    """Values that are no shop, no store, no thing, no ticks, no group and no box of any shop here."""
+    """Values that are no shop, no store, no thing, no ticks, no question, no group and no box of any shop here."""
     deep = []
     for _ in range(18):
         deep = [deep]
     return [
         None, True, False, 0, 1, -1, 10 ** 999, "", "zz", "red\n", "Red", [None], [0], [[[]]], (), ("red",),
         {}, {"red": True}, {0: []}, {1: [[]]}, [{}], [()], [[], [], [], [], []], deep,
-        InvalidItem([]), NothingToUndo(), rule(), Live(shop()),
+        InvalidItem([]), NothingToUndo(), rule(), Live(shop()), library(),
     ]
 
 
@@ -177,6 +185,8 @@ def traced(value):
         return id(value), words_of(value)
     if isinstance(value, Live):
         return id(value), value.shop.groups(), value.store(), value.ticks(), value.log()
+    if isinstance(value, Library):
+        return id(value), value.shop.groups(), [(name, value.question_of(name)) for name in value], value.log()
     return id(value), repr(value)
 
 

@@ -5,10 +5,10 @@ meets the ticks of all other groups. So one other group, the partner, stands for
 of these, and of the group and of the partner two boxes each are enough.
 """
 
-from tickcounts.shops import bearable, copy_rows
+from tickcounts.shops import bearable
+from tickcounts.stores import store_with
 from tickcounts.tallies import Tally, View
 
-MODEL = "item"
 FEW = 2
 
 
@@ -24,7 +24,7 @@ class Scene:
         self.partner = partner_of(groups, at)
         self.partner_group, self.partner_few = named_few(groups, self.partner)
         self.kinds = kinds_of(groups, at, self.partner)
-        self.tally = Tally(groups, [(MODEL, thing) for thing in self.kinds])
+        self.tally = Tally(groups, store_with(self.kinds))
 
     def view(self, ticked, elsewhere):
         """The view with these boxes of the group and those of the partner ticked."""
@@ -36,7 +36,7 @@ class Scene:
 
     def store_of(self, places):
         """The store, free to be handed out, of the things at some places, all of one model."""
-        return [(MODEL, copy_rows(self.kinds[place])) for place in places]
+        return store_with([self.kinds[place] for place in places])
 
 
 def scenes(shop):

@@ -21,10 +21,10 @@ class Shop:
                 raise InvalidItem(group)
             ahead.append(group[0])
         # For the package alone, which neither changes them nor hands them out. The rows are kept since
-        # most of the time of a call goes into telling whether things and ticks are such.
+        # most of the time of a call goes into telling whether things and ticks are such. Those of things are in order.
         self.layout = copy_groups(groups)
         self.tick_rows = [bearable("many", boxes) for name, mode, bears, boxes in groups]
-        self.thing_rows = [bearable(bears, boxes) for name, mode, bears, boxes in groups]
+        self.thing_rows = [sorted(bearable(bears, boxes)) for name, mode, bears, boxes in groups]
 
     def __eq__(self, other):
         return isinstance(other, Shop) and self.layout == other.layout
@@ -124,7 +124,7 @@ def all_things(shop):
     for rows in shop.thing_rows:
         things = [[*thing, row] for thing in things for row in rows]
     # So far the things share their rows, and the caller may change each one alone.
-    return sorted([copy_rows(thing) for thing in things])
+    return [copy_rows(thing) for thing in things]
 
 
 def bearable(bears, boxes):

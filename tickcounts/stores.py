@@ -2,8 +2,15 @@
 
 from tickcounts.checks import is_name
 from tickcounts.errors import InvalidStore
-from tickcounts.shops import meets_row, need_shop, need_ticks
+from tickcounts.shops import copy_rows, meets_row, need_shop, need_ticks
 from tickcounts.tallies import Tally, View
+
+MODEL = "item"
+
+
+def store_with(things):
+    """The store, free to be handed out, of some things, all of one model."""
+    return [(MODEL, copy_rows(thing)) for thing in things]
 
 
 def is_store(shop, value):
